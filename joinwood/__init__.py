@@ -1,0 +1,1 @@
+"""Questions over several tables, taken apart to trees, counted, and bounded by weights."""

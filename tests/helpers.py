@@ -1,0 +1,105 @@
+"""What the tests hold the program against: the document's words, tried out in the most simple-minded way."""
+
+import itertools
+import random
+
+
+def pattern_list(text):
+    """A shape from a text such as "AB BC CA"."""
+    return [tuple(word) for word in text.split()]
+
+
+def letters_in(shape):
+    return sorted({letter for letters in shape for letter in letters})
+
+
+def answers_by_trial(shape, rows):
+    """Each choice of cells for the letters, held against each pattern [6]."""
+    letters = letters_in(shape)
+    cells = []
+    for letter in letters:
+        seen = {row[p.index(letter)] for p, table in zip(shape, rows) if letter in p for row in table}
+        cells.append(sorted(seen))
+    found = []
+    for choice in itertools.product(*cells):
+        at = dict(zip(letters, choice))
+        if all(tuple(at[letter] for letter in p) in table for p, table in zip(shape, rows)):
+            found.append(choice)
+    return found
+
+
+def leads_to_root(parents):
+    """Whether all numbers of parents are other patterns' and lead to the one root [7]."""
+    if parents.count(None) != 1:
+        return False
+    for i, parent in enumerate(parents):
+        if parent is not None and (parent == i or parent not in range(len(parents))):
+            return False
+        at = i
+        for step in parents:
+            at = at if parents[at] is None else parents[at]
+        if parents[at] is not None:
+            return False
+    return True
+
+
+def hangs_together(shape, parents):
+    """Whether, of each letter's patterns, all but one have a parent that has it [7]."""
+    for letter in letters_in(shape):
+        having = [i for i, letters in enumerate(shape) if letter in letters]
+        beneath = [i for i in having if parents[i] is not None and letter in shape[parents[i]]]
+        if len(beneath) != len(having) - 1:
+            return False
+    return True
+
+
+def is_tree(shape, parents):
+    return len(parents) == len(shape) and leads_to_root(parents) and hangs_together(shape, parents)
+
+
+def all_parents(size):
+    """All lists of parents of so many patterns that lead to one root."""
+    choices = [None] + list(range(size))
+    return [list(parents) for parents in itertools.product(choices, repeat=size) if leads_to_root(list(parents))]
+
+
+def can_be_done(left, step):
+    """Whether the step can be done [8]; left is a dict from patterns' numbers to sets of letters."""
+    if step[0] == "letter":
+        return len(step) == 2 and len([i for i in left if step[1] in left[i]]) == 1
+    return (step[0] == "pattern" and len(step) == 3 and step[1] != step[2]
+            and step[1] in left and step[2] in left and left[step[1]] <= left[step[2]])
+
+
+def after(left, step):
+    if step[0] == "letter":
+        return {i: letters - {step[1]} for i, letters in left.items()}
+    return {i: letters for i, letters in left.items() if i != step[1]}
+
+
+def steps_to_try(left):
+    letters = {letter for owned in left.values() for letter in owned}
+    return [("letter", letter) for letter in letters] + [("pattern", i, j) for i in left for j in left]
+
+
+def small_shapes(letters, size):
+    """All shapes of so many patterns over the letters, but for the order of patterns and of letters."""
+    patterns = [p for n in range(1, len(letters) + 1) for p in itertools.combinations(letters, n)]
+    return [list(shape) for shape in itertools.combinations_with_replacement(patterns, size)]
+
+
+def drawn_shape(draw, size, letters="ABCDEF"):
+    widest = min(4, len(letters))
+    return [tuple(draw.sample(letters, draw.randint(1, widest))) for i in range(size)]
+
+
+def drawn_rows(draw, shape, most, cells):
+    rows = []
+    for letters in shape:
+        table = {tuple(draw.choice(cells) for letter in letters) for i in range(draw.randint(0, most))}
+        rows.append(sorted(table))
+    return rows
+
+
+def source(seed):
+    return random.Random(seed)
