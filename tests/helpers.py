@@ -1,7 +1,27 @@
 """What the tests hold the program against: the document's words, tried out in the most simple-minded way."""
 
+import functools
 import itertools
 import random
+
+from joinwood.errors import JoinError, NoAnswer, NoRow, NoTable, NoText, NoWidth
+
+REFUSALS = [NoTable, NoWidth, NoAnswer, NoText, NoRow]
+
+BIG = int("9" * 60)
+
+TREE_SHAPES = ["A", "DBCA", "AB BC", "CB BA", "A B", "AB CD", "AB BA", "AB AB A", "ABC AB A", "C CBA BC", "AB BC CD",
+               "BC AB CD", "AB AC AD", "A B C", "AB C BD", "AB BC CD DE", "AF BF CF DF", "BA CB DC AD ABCD"]
+
+
+def refused_with(test, refusal, asked):
+    """Asks, and holds what is raised against the refusals of the interface."""
+    with test.assertRaises(JoinError) as caught:
+        asked()
+    test.assertIs(type(caught.exception), refusal)
+    test.assertIsInstance(caught.exception, ValueError)
+    for other in REFUSALS:
+        test.assertEqual(isinstance(caught.exception, other), other is refusal)
 
 
 def pattern_list(text):
@@ -57,10 +77,47 @@ def is_tree(shape, parents):
     return len(parents) == len(shape) and leads_to_root(parents) and hangs_together(shape, parents)
 
 
+@functools.lru_cache(maxsize=None)
+def kept_parents(size):
+    choices = [None] + list(range(size))
+    return [parents for parents in itertools.product(choices, repeat=size) if leads_to_root(list(parents))]
+
+
 def all_parents(size):
     """All lists of parents of so many patterns that lead to one root."""
-    choices = [None] + list(range(size))
-    return [list(parents) for parents in itertools.product(choices, repeat=size) if leads_to_root(list(parents))]
+    return [list(parents) for parents in kept_parents(size)]
+
+
+def trees_of(shape):
+    """All trees of the shape, of whatever root [7]."""
+    return [parents for parents in all_parents(len(shape)) if hangs_together(shape, parents)]
+
+
+def some_trees(draw, shape, most):
+    """All trees of the shape or, where there are more, so many of them."""
+    trees = trees_of(shape)
+    return draw.sample(trees, min(most, len(trees)))
+
+
+def walk_beneath(parents, i):
+    """The pattern, and all that hangs beneath it, as [10] tells."""
+    found = [i]
+    for child in range(len(parents)):
+        if parents[child] == i:
+            found += walk_beneath(parents, child)
+    return found
+
+
+def row_in(shape, i, answer):
+    """The row of pattern i that the answer has."""
+    at = dict(zip(letters_in(shape), answer))
+    return tuple(at[letter] for letter in shape[i])
+
+
+def in_order_of(shape, parents, told):
+    """The answers told, in the order that they have by the tree [10]."""
+    walked = walk_beneath(parents, parents.index(None))
+    return sorted(told, key=lambda answer: [row_in(shape, i, answer) for i in walked])
 
 
 def can_be_done(left, step):
@@ -91,6 +148,19 @@ def small_shapes(letters, size):
 def drawn_shape(draw, size, letters="ABCDEF"):
     widest = min(4, len(letters))
     return [tuple(draw.sample(letters, draw.randint(1, widest))) for i in range(size)]
+
+
+def drawn_tree_shape(draw, size, letters="ABCDEF"):
+    """A shape that has a tree: each pattern but the first takes some letters of one ahead of it, and new ones."""
+    fresh = draw.sample(letters, len(letters))
+    shape = [[fresh.pop() for turn in range(draw.randint(1, 3))]]
+    while len(shape) < size:
+        above = draw.choice(shape)
+        pattern = draw.sample(above, draw.randint(0, min(3, len(above))))
+        while fresh and len(pattern) < 4 and (not pattern or draw.random() < 0.4):
+            pattern.append(fresh.pop())
+        shape.append(pattern or above[:1])
+    return [tuple(draw.sample(pattern, len(pattern))) for pattern in draw.sample(shape, len(shape))]
 
 
 def drawn_rows(draw, shape, most, cells):

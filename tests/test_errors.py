@@ -1,8 +1,7 @@
 import unittest
 
-from joinwood.errors import JoinError, NoAnswer, NoRow, NoTable, NoText, NoWidth
-
-REFUSALS = [NoTable, NoWidth, NoAnswer, NoText, NoRow]
+from helpers import REFUSALS
+from joinwood.errors import JoinError
 
 
 class Refusals(unittest.TestCase):

@@ -21,6 +21,8 @@ KEYWORDS = {"sorted": ["key", "reverse"], "min": ["key", "default"], "max": ["ke
             "enumerate": ["start"], "zip": ["strict"]}
 WORDS = """type typing typing_extensions enum Enum IntEnum StrEnum Flag IntFlag Generic Protocol ABC ABCMeta
     namedtuple NamedTuple TypedDict TYPE_CHECKING abstractmethod""".split()
+FREE_VALUES = "count index title find get join lower upper split strip copy add".split()
+NOWHERE = "register mro elements open input version_info with_traceback add_note args format format_map".split()
 TWO_UNDERSCORES = ["__init__", "__eq__", "__repr__", "__str__", "__len__"]
 NODES = """Module FunctionDef ClassDef Return Assign AugAssign For While If Raise Try ImportFrom Expr Pass Break
     Continue BoolOp BinOp UnaryOp Lambda IfExp Dict Set ListComp Compare Call FormattedValue JoinedStr Constant
@@ -241,6 +243,25 @@ class Rules(unittest.TestCase):
                         self.assertEqual(node.keywords, [])
                         for part in node.body:
                             self.assertIsInstance(part, (ast.FunctionDef, ast.Pass))
+
+    def test_own_methods_and_values(self):
+        taken = {name for kind in [str, int, list, tuple, dict, set, bytes] for name in dir(kind)}
+        methods, values = set(), set()
+        for path, text, tree in parsed_files():
+            for node in ast.walk(tree):
+                if isinstance(node, ast.ClassDef):
+                    named = [part.name for part in node.body if isinstance(part, ast.FunctionDef)]
+                    self.assertEqual(len(named), len(set(named)), path.name)
+                    methods.update(named)
+                if isinstance(node, ast.Attribute) and isinstance(node.ctx, ast.Store):
+                    self.assertIsInstance(node.value, ast.Name, path.name)
+                    values.add(node.attr)
+                if isinstance(node, ast.FunctionDef) and node.name == "__init__":
+                    self.assertFalse([part for part in ast.walk(node) if isinstance(part, ast.Return)], path.name)
+        self.assertFalse(methods & values)
+        self.assertFalse((methods & taken) - set(METHODS + TWO_UNDERSCORES + ["add", "discard"]))
+        self.assertFalse((values & taken) - set(FREE_VALUES))
+        self.assertFalse((methods | values) & set(NOWHERE))
 
     def test_errors(self):
         for path, text, tree in parsed_files():

@@ -2,13 +2,9 @@ import copy
 import itertools
 import unittest
 
-from helpers import answers_by_trial, drawn_rows, drawn_shape, pattern_list, source
-from joinwood.errors import JoinError, NoAnswer, NoRow, NoTable, NoText, NoWidth
+from helpers import BIG, answers_by_trial, drawn_rows, drawn_shape, pattern_list, refused_with, source
+from joinwood.errors import NoTable, NoWidth
 from joinwood.questions import answers, letters_of, rows_of, shape_of
-
-REFUSALS = [NoTable, NoWidth, NoAnswer, NoText, NoRow]
-
-BIG = int("9" * 60)
 
 
 class Shapes(unittest.TestCase):
@@ -56,12 +52,7 @@ class Shapes(unittest.TestCase):
 class Rows(unittest.TestCase):
     def refused_with(self, refusal, tables, question):
         before = copy.deepcopy((tables, question))
-        with self.assertRaises(JoinError) as caught:
-            rows_of(tables, question)
-        self.assertIs(type(caught.exception), refusal)
-        self.assertIsInstance(caught.exception, ValueError)
-        for other in REFUSALS:
-            self.assertEqual(isinstance(caught.exception, other), other is refusal)
+        refused_with(self, refusal, lambda: rows_of(tables, question))
         self.assertEqual((tables, question), before)
 
     def test_in_order_and_each_once(self):
