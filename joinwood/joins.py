@@ -27,13 +27,14 @@ def longer(parts, earlier, guides):
     return grown
 
 
+def guides_to(shape, rows, earlier, letter):
+    return [guide_of(own, table, earlier, letter) for own, table in zip(shape, rows) if letter in own]
+
+
+# For each place of the order, from 0 on, the list of the parts up to there.
 def parts_along(shape, rows, order):
-    parts = [()] if all(rows) else []
+    found = [[()] if all(rows) else []]
     for place, letter in enumerate(order):
         earlier = order[:place]
-        guides = []
-        for letters, table in zip(shape, rows):
-            if letter in letters:
-                guides.append(guide_of(letters, table, earlier, letter))
-        parts = longer(parts, earlier, guides)
-    return parts
+        found.append(longer(found[-1], earlier, guides_to(shape, rows, earlier, letter)))
+    return found

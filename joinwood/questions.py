@@ -45,4 +45,4 @@ def shared_first(shape):
 def answers(shape, rows):
     order = shared_first(shape)
     letters = letters_of(shape)
-    return sorted([cells_of(part, order, letters) for part in parts_along(shape, rows, order)])
+    return sorted([cells_of(part, order, letters) for part in parts_along(shape, rows, order)[-1]])

@@ -48,6 +48,27 @@ def answers_by_trial(shape, rows):
     return found
 
 
+def parts_by_trial(shape, rows, order, place):
+    """Each choice of cells for the first letters of the order, held against each pattern [15]."""
+    first = order[:place]
+    cells = []
+    for letter in first:
+        cells.append(sorted({row[p.index(letter)] for p, table in zip(shape, rows) if letter in p for row in table}))
+    found = []
+    for choice in itertools.product(*cells):
+        at = dict(zip(first, choice))
+        if all(any(all(at.get(letter, cell) == cell for letter, cell in zip(p, row)) for row in table)
+               for p, table in zip(shape, rows)):
+            found.append(choice)
+    return found
+
+
+def along(shape, order, answer):
+    """An answer with its cells put in the order's letters."""
+    at = dict(zip(letters_in(shape), answer))
+    return tuple(at[letter] for letter in order)
+
+
 def leads_to_root(parents):
     """Whether all numbers of parents are other patterns' and lead to the one root [7]."""
     if parents.count(None) != 1:
@@ -143,6 +164,12 @@ def small_shapes(letters, size):
     """All shapes of so many patterns over the letters, but for the order of patterns and of letters."""
     patterns = [p for n in range(1, len(letters) + 1) for p in itertools.combinations(letters, n)]
     return [list(shape) for shape in itertools.combinations_with_replacement(patterns, size)]
+
+
+def ring(size):
+    """A ring of so many patterns of two letters each."""
+    letters = "ABCDEF"[:size]
+    return [(letters[i], letters[(i + 1) % size]) for i in range(size)]
 
 
 def drawn_shape(draw, size, letters="ABCDEF"):

@@ -103,9 +103,8 @@ class Rules(unittest.TestCase):
                         self.assertIn(node.conversion, [-1, ord("r")])
                         self.assertIsNone(node.format_spec)
                     if isinstance(node, ast.BinOp) and isinstance(node.op, ast.Pow):
-                        base = node.left
-                        written = isinstance(node.right, ast.Constant) and 0 <= node.right.value <= 64
-                        self.assertTrue(written or not (isinstance(base, ast.Constant) and base.value == 2))
+                        self.assertIsInstance(node.right, ast.Constant)
+                        self.assertIn(node.right.value, range(65))
                     if isinstance(node, ast.Compare):
                         sides = [node.left] + node.comparators
                         if any(isinstance(op, (ast.Is, ast.IsNot)) for op in node.ops):
@@ -144,6 +143,8 @@ class Rules(unittest.TestCase):
                         bound.extend(name.name for name in node.names)
                     elif isinstance(node, ast.Assign):
                         bound.append(node.targets[0].id)
+                        for part in ast.walk(node.value):
+                            self.assertIn(type(part), [ast.Constant, ast.Tuple, ast.Load])
                     else:
                         bound.append(node.name)
                 self.assertEqual(len(bound), len(set(bound)))
